@@ -1,0 +1,1 @@
+"""Keptbits: device registers whose bits act when they are touched."""
