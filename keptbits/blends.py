@@ -1,7 +1,7 @@
 """Blends: words made of shifted, kept and flipped bits of another word."""
 
-from keptbits.errors import InvalidShift, InvalidWidth, InvalidWord
-from keptbits.words import full_word, is_int, is_width, is_word
+from keptbits.errors import InvalidShift, InvalidWidth
+from keptbits.words import check_word, full_word, is_int, is_width
 
 
 def shifted(word, shift, width):
@@ -9,12 +9,6 @@ def shifted(word, shift, width):
     if shift < 0:
         return word >> -shift
     return (word << shift) & full_word(width)
-
-
-def check_word(value, width):
-    """Raise InvalidWord for any value that is not a word of the width."""
-    if not is_word(value, width):
-        raise InvalidWord(value)
 
 
 def check_shift(value, least, most):

@@ -1,6 +1,6 @@
 """Widths, words, lanes and names."""
 
-from keptbits.errors import InvalidLane, InvalidWidth
+from keptbits.errors import InvalidLane, InvalidWidth, InvalidWord
 
 LANES = {
     8: ("w",),
@@ -32,6 +32,12 @@ def full_word(size):
 def is_word(value, size):
     """Whether any value is a word of so many bits."""
     return is_int(value) and 0 <= value <= full_word(size)
+
+
+def check_word(value, size):
+    """Raise InvalidWord for any value that is not a word of so many bits."""
+    if not is_word(value, size):
+        raise InvalidWord(value)
 
 
 def lanes_of(width):

@@ -1,6 +1,5 @@
 """What several tests use: values of many kinds, and how a refusal is looked at."""
 
-import copy
 import doctest
 from pathlib import Path
 
@@ -36,9 +35,20 @@ def same(one, other):
     return one == other
 
 
+def laid_open(value):
+    """A value with the attributes of all objects in it, so that each change of it can be seen."""
+    if isinstance(value, (list, tuple)):
+        return value.__class__, [laid_open(part) for part in value]
+    if isinstance(value, dict):
+        return dict, [(key, laid_open(part)) for key, part in value.items()]
+    if hasattr(value, "__dict__") and not isinstance(value, type):
+        return value.__class__, laid_open(vars(value))
+    return value.__class__, repr(value)
+
+
 def refused(test, error, attributes, call, *args, **more):
     """A call raises just this error, with these attributes, and leaves its arguments alone."""
-    before = copy.deepcopy((args, more))
+    before = laid_open((args, more))
     try:
         result = call(*args, **more)
     except error as caught:
@@ -47,7 +57,7 @@ def refused(test, error, attributes, call, *args, **more):
             test.assertTrue(same(getattr(caught, name), value), (name, value))
     else:
         test.fail(f"{error.__name__} was not raised, but {result!r} returned for {str((args, more))[:200]}")
-    test.assertEqual(str(before), str((args, more)))
+    test.assertEqual(before, laid_open((args, more)))
 
 
 def run_example(test, text):

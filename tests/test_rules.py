@@ -104,6 +104,29 @@ INTERFACE = {
     "kinds": {
         "Kind": ("__init__", "after_read", "after_write", "unguarded", "deeds", "__eq__", "__str__"),
     },
+    "bits": {
+        "Bit": ("__init__", "read", "write", "deed", "now", "state"),
+        "TakenBit": ("read",),
+        **{name: ("write",) for name in ("ClearedBit", "ZeroClearedBit", "SetBit", "FlippedBit", "OnceBit", "DeafBit")},
+        **{name: ("deed",) for name in ("RaisedBit", "EndedBit")},
+        **{name: () for name in ("DriftingBit", "EventBit", "TakenEventBit", "StartBit", "GaugeBit", "SealedBit")},
+        "KindBit": ("__init__",),
+    },
+    "effects": {
+        "Effect": ("of", "__call__", "pairs", "__mul__", "__or__", "within", "__eq__"),
+        "all_effects": None,
+        "shortest": None,
+        "effect_parting": None,
+    },
+    "fields": {
+        "Field": ("__init__", "__eq__"),
+        "Register": ("__init__", "of", "__eq__"),
+        "KeyRegister": ("__init__", "of", "__eq__"),
+    },
+    "maps": {
+        "DeviceMap": ("__init__", "__getitem__", "home", "__contains__", "__len__", "__iter__", "touched", "beside",
+                      "of", "__eq__"),
+    },
 }
 
 
@@ -117,6 +140,13 @@ class Interface(unittest.TestCase):
                 if methods is not None:
                     there = {node.name for node in defined[word].body if isinstance(node, ast.FunctionDef)}
                     self.assertEqual(set(methods) - there, set())
+
+    def test_each_sort_of_bit_has_its_own_words(self):
+        tree = ast.parse((PACKAGE / "bits.py").read_text(encoding="utf-8"))
+        for node in tree.body:
+            if isinstance(node, ast.ClassDef) and node.name != "KindBit":
+                names = [part.targets[0].id for part in node.body if isinstance(part, ast.Assign)]
+                self.assertEqual(names, ["WORDS"], node.name)
 
 
 if __name__ == "__main__":

@@ -1,8 +1,8 @@
 import unittest
 
-from keptbits.errors import InvalidLane, InvalidWidth
-from keptbits.words import (full_word, is_int, is_name, is_task_name, is_variable, is_width, is_word, lane_span,
-                            lanes_of)
+from keptbits.errors import InvalidLane, InvalidWidth, InvalidWord
+from keptbits.words import (check_word, full_word, is_int, is_name, is_task_name, is_variable, is_width, is_word,
+                            lane_span, lanes_of)
 from samples import ODD_VALUES, refused, same
 
 SPANS = {
@@ -72,8 +72,10 @@ class Words(unittest.TestCase):
             self.assertTrue(same(full_word(size), full))
             for value in (0, 1, full // 2, full):
                 self.assertIs(is_word(value, size), True)
+                check_word(value, size)
             for value in (-1, full + 1, -full, True, False, None, str(full), [full], (full,), {full: full}):
                 self.assertIs(is_word(value, size), False)
+                refused(self, InvalidWord, {"value": value}, check_word, value, size)
 
 
 class Names(unittest.TestCase):
