@@ -101,7 +101,7 @@ def all_effects(kind, *, quiet=False):
     # otherwise earlier letters could take their place. So only first letters grow.
     while len(found) > 0:
         longer = []
-        for letters, effect in found:
+        for letters, effect in list(found):
             yield letters, effect
             for letter, step in steps:
                 grown = effect * step
