@@ -1,4 +1,4 @@
-"""Widths, words, lanes and names."""
+"""Widths, words, lanes, names, and what any value is."""
 
 from keptbits.errors import InvalidLane, InvalidWidth, InvalidWord
 
@@ -22,6 +22,14 @@ def is_int(value):
 def is_width(value):
     """Whether any value is a width."""
     return is_int(value) and value in LANES
+
+
+def is_plain(value):
+    """Whether any value is a tuple of strings and integers alone.
+
+    Such tuples can be looked up, and are equal only if the kinds of their parts are equal, too.
+    """
+    return isinstance(value, tuple) and all([isinstance(part, str) or is_int(part) for part in value])
 
 
 def full_word(size):

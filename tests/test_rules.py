@@ -127,6 +127,17 @@ INTERFACE = {
         "DeviceMap": ("__init__", "__getitem__", "home", "__contains__", "__len__", "__iter__", "touched", "beside",
                       "of", "__eq__"),
     },
+    "images": {
+        "Image": ("__init__", "__getitem__", "__setitem__", "__and__", "__or__", "__xor__", "__invert__", "__iand__",
+                  "__ior__", "__ixor__", "within", "numbers", "of_numbers", "__eq__", "__str__"),
+    },
+    "neutral": {"neutral_letters": None, "neutral_write": None},
+    "steps": {
+        "Step": (),
+        **{name: ("__init__", "of", "__eq__", "__str__", "__repr__") for name in ("Read", "Write")},
+        **{name: ("__init__", "__eq__", "__str__", "__repr__") for name in ("Serve", "Pair")},
+    },
+    "tasks": {"Task": ("__init__", "of", "__eq__")},
 }
 
 
