@@ -1,6 +1,6 @@
 """Images: the values of all fields of a map, kept as a word for each register."""
 
-from keptbits.errors import InvalidWord, NoName
+from keptbits.errors import InvalidWord
 from keptbits.fields import Register
 from keptbits.words import check_word, full_word
 
@@ -55,8 +55,6 @@ class Image:
             port, lane = at
             low, size = self.layout.span(port, lane)
             return self.ports.index(port), low, size
-        if at not in self.layout:
-            raise NoName(at)
         part = self.layout[at]
         if isinstance(part, Register):
             return self.ports.index(at), 0, self.layout.width

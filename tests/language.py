@@ -30,6 +30,8 @@ BARRED_WORDS = set("""type typing typing_extensions enum Enum IntEnum StrEnum Fl
 namedtuple NamedTuple TypedDict TYPE_CHECKING abstractmethod""".split())
 VIEWS = {"zip", "enumerate", "reversed", "range", "map"}
 AT_ONCE = {"list", "tuple", "dict", "sorted", "sum", "any", "all", "enumerate", "zip", "min", "max", "len", "reversed"}
+# `_` is there once a doctest has shown a value
+BUILTINS = set(dir(builtins)) - {"_"}
 FUNCTIONS = (ast.FunctionDef, ast.Lambda)
 COMPREHENSIONS = (ast.ListComp, ast.SetComp, ast.DictComp, ast.GeneratorExp)
 
@@ -182,7 +184,7 @@ class Package:
                   and isinstance(node.value, (ast.List, ast.Dict))}
         for node in ast.walk(tree):
             if isinstance(node, FUNCTIONS):
-                for name in bound_names(node) & (own | tables | set(dir(builtins))):
+                for name in bound_names(node) & (own | tables | BUILTINS):
                     self.note("L15", module, node, name)
             if isinstance(node, ast.Name) and node.id in tables and isinstance(node.ctx, ast.Load):
                 parent = node.parent
@@ -249,7 +251,7 @@ class Package:
         names = []
         if isinstance(node, (ast.FunctionDef, ast.ClassDef)):
             names = [node.name]
-            if isinstance(node, ast.FunctionDef) and class_of(node) is None and node.name in set(dir(builtins)):
+            if isinstance(node, ast.FunctionDef) and class_of(node) is None and node.name in BUILTINS:
                 self.note("L15", module, node, node.name)
         elif isinstance(node, ast.arg):
             names = [node.arg]
@@ -291,7 +293,7 @@ class Package:
             if isinstance(node.parent, ast.Call) and not isinstance(node.value, (ast.Name, ast.Attribute, ast.List)):
                 self.note("L7", module, node)
         if isinstance(node, ast.Name) and isinstance(node.ctx, ast.Load):
-            if node.id in set(dir(builtins)) - ALLOWED and not isinstance(node.parent, ast.ExceptHandler):
+            if node.id in BUILTINS - ALLOWED and not isinstance(node.parent, ast.ExceptHandler):
                 self.note("L8", module, node, node.id)
         if isinstance(node, (ast.NamedExpr, ast.Await)):
             self.note("L7", module, node)
@@ -347,7 +349,7 @@ class Package:
         if isinstance(node, ast.Raise) and node.exc is not None:
             if called(node.exc) is None or not isinstance(node.exc.func, ast.Name):
                 self.note("L19", module, node)
-            elif node.exc.func.id not in self.classes and node.exc.func.id not in dir(builtins):
+            elif node.exc.func.id not in self.classes and node.exc.func.id not in BUILTINS:
                 self.note("L19", module, node)
         if isinstance(node, ast.ExceptHandler):
             names = [ast.unparse(part) for part in getattr(node.type, "elts", [node.type])] if node.type else ["none"]

@@ -138,6 +138,23 @@ INTERFACE = {
         **{name: ("__init__", "__eq__", "__str__", "__repr__") for name in ("Serve", "Pair")},
     },
     "tasks": {"Task": ("__init__", "of", "__eq__")},
+    "systems": {
+        "System": ("__init__", "of", "of_text", "__getitem__", "__contains__", "__iter__", "__eq__", "__str__",
+                   "__repr__", "with_holds", "without"),
+    },
+    "items": {"items_of": None, "needs": None, "closure": None},
+    "units": {
+        "Unit": ("__init__", "of", "of_all", "around", "moves", "after", "project", "__contains__", "__len__",
+                 "__iter__", "within", "__eq__", "__repr__"),
+        "units_of": None,
+    },
+    "machine": {
+        "Machine": ("__init__", "of", "state", "places", "done", "faults", "most", "moves", "do", "do_all",
+                    "__getitem__", "__contains__", "play", "twin", "trial", "tried", "__eq__", "__repr__"),
+        "LoggedMachine": ("log", "back", "__eq__", "__repr__"),
+        "StoppedMachine": ("do", "__repr__"),
+        "assign_most": None,
+    },
 }
 
 

@@ -174,7 +174,7 @@ class Equality(unittest.TestCase):
                 Write("S", "w", Blend.constant(16, 5)), Write("S", "w", CONSTANT, "A"), Write("S", "w", COPY, variable="a"),
                 Write("S", "w", COPY, variable="b"), Write("S", "w", COPY, "A", variable="a"), Serve("a", 1),
                 Serve("b", 1), Serve("a", 2), Pair("a", "b", "H"), Pair("b", "a", "H"), Pair("a", "c", "H"),
-                Pair("a", "b", "G"),
+                Pair("c", "b", "H"), Pair("a", "b", "G"),
             ]
 
         for (at, one), (number, other) in product(enumerate(made()), enumerate(made())):
