@@ -28,7 +28,7 @@ class Image:
         for word in words:
             check_word(word, layout.width)
         self.layout = layout
-        self.ports = [port.name for port in layout.registers]
+        self.positions = {port.name: k for k, port in enumerate(layout.registers)}
         self.masks = [field_mask(port) for port in layout.registers]
         self.words = [word & mask for word, mask in zip(words, self.masks)]
 
@@ -54,11 +54,11 @@ class Image:
         if isinstance(at, tuple) and len(at) == 2:
             port, lane = at
             low, size = self.layout.span(port, lane)
-            return self.ports.index(port), low, size
+            return self.positions[port], low, size
         part = self.layout[at]
         if isinstance(part, Register):
-            return self.ports.index(at), 0, self.layout.width
-        return self.ports.index(self.layout.home(at)), part.low, part.size
+            return self.positions[at], 0, self.layout.width
+        return self.positions[self.layout.home(at)], part.low, part.size
 
     def __getitem__(self, at):
         k, low, size = self.located(at)

@@ -112,14 +112,14 @@ class PairPlan:
     def __init__(self, order, task, step):
         self.first = order.get(("mark", task, step.first, step.field))
         self.second = order.get(("mark", task, step.second, step.field))
-        self.fault = ("torn", task, step.first, step.second, step.field)
+        self.wrong = ("torn", task, step.first, step.second, step.field)
 
     def perform(self, scene):
         """Carry out the Pair."""
         if self.first is None or self.second is None:
             return
         if scene.holding[self.first] != scene.holding[self.second]:
-            scene.wrongs.append(self.fault)
+            scene.wrongs.append(self.wrong)
 
 
 def plan_of(layout, order, task, step):

@@ -525,6 +525,10 @@ class Package:
                 if isinstance(part, ast.Call) and isinstance(part.func, ast.Name) and part.func.id in parameters:
                     if part.func.id != "cls":
                         self.note("L5 pure", module, part, part.func.id)
+                # by its name, such a call may be one of what an object holds
+                if isinstance(part, ast.Call) and isinstance(part.func, ast.Attribute):
+                    if part.func.attr in self.attributes:
+                        self.note("L5 pure", module, part, part.func.attr)
 
 
 def language_faults(sources):

@@ -51,6 +51,9 @@ BROKEN = {
     "class A:\n    @property\n    def told(self):\n        self.rows = 1\n        return 1\n": "L5 pure",
     "class A:\n    def __eq__(self, other):\n        return f(other)\n\n\ndef f(xs):\n    xs.append(1)\n": "L5 pure",
     "class A:\n    def __eq__(self, other):\n        n = 1\n        n += 1\n        return n\n": "L5 pure",
+    # an error of the package has an attribute `index`
+    "class A:\n    def __getitem__(self, at):\n        return self.rows.index(at)\n": "L5 pure",
+    "class A:\n    def __len__(self):\n        return len(f(self))\n\n\ndef f(xs):\n    return xs.value()\n": "L5 pure",
 }
 FINE = """
 from keptbits.words import is_int
