@@ -32,18 +32,22 @@ def paired_of(layout, steps):
             if (variable, field.name) in found]
 
 
+def items_of_map(layout):
+    """The list of the bits of a map, and of its keys."""
+    bits = [("bit", name, i) for name, i in layout.bits]
+    return bits + [("key", port.name) for port in layout.registers if isinstance(port, KeyRegister)]
+
+
 def items_of(system):
     """The tuple of all items of a system, in their order."""
     layout = system.layout
-    bits = [("bit", name, i) for name, i in layout.bits]
-    ports = [("key", port.name) for port in layout.registers if isinstance(port, KeyRegister)]
     paired = {task.name: paired_of(layout, task.steps) for task in system.tasks}
     named = [name for task in system.tasks for variable, name in paired[task.name]]
     latches = [("latch", field.name) for field in layout.fields if field.name in named]
     loaded = [("var", task.name, variable, j) for task in system.tasks
               for variable, j in sorted({load[:2] for load in loads_of(layout, task.steps)})]
     marks = [("mark", task.name, variable, name) for task in system.tasks for variable, name in paired[task.name]]
-    return tuple(bits + ports + latches + loaded + marks)
+    return tuple(items_of_map(layout) + latches + loaded + marks)
 
 
 def guards_of(field):
@@ -58,26 +62,30 @@ def guards_of(field):
     return found
 
 
-def needs_table(system):
-    """For each item of a system, in their order, the tuple of those that it needs."""
-    layout = system.layout
-    order = {item: place for place, item in enumerate(items_of(system))}
-    found = {item: [] for item in order}
+def needs_among(layout, items, rows):
+    """For each of some items of a map and of rows (name of a task, steps), the tuple of those that it needs."""
+    order = {item: place for place, item in enumerate(items)}
+    found = {item: [] for item in items}
     for name, i in layout.bits:
         found["bit", name, i].extend(guards_of(layout[name]))
-    for task in system.tasks:
-        for name, i, variable, j in stores_of(layout, task.steps):
-            found["bit", name, i].append(("var", task.name, variable, j))
-        for variable, j, name, i in loads_of(layout, task.steps):
-            found["var", task.name, variable, j].append(("bit", name, i))
+    for task, steps in rows:
+        for name, i, variable, j in stores_of(layout, steps):
+            found["bit", name, i].append(("var", task, variable, j))
+        for variable, j, name, i in loads_of(layout, steps):
+            found["var", task, variable, j].append(("bit", name, i))
             if layout[name].device == "raise":
-                found["bit", name, i].append(("var", task.name, variable, j))
-        for variable, name in paired_of(layout, task.steps):
-            found["mark", task.name, variable, name].append(("latch", name))
-    items = list(order)
+                found["bit", name, i].append(("var", task, variable, j))
+        for variable, name in paired_of(layout, steps):
+            found["mark", task, variable, name].append(("latch", name))
     # a bit that no Read loads is no item: it is 0 all the time
     places = {item: sorted({order[other] for other in found[item] if other in order}) for item in items}
     return {item: tuple([items[place] for place in places[item]]) for item in items}
+
+
+def needs_table(system):
+    """For each item of a system, in their order, the tuple of those that it needs."""
+    rows = [(task.name, task.steps) for task in system.tasks]
+    return needs_among(system.layout, items_of(system), rows)
 
 
 def check_items(table, items):

@@ -45,9 +45,9 @@ BLEND_FORM = ("name", "lane", "variable", "shift", "number", "number")
 TAILS = {"task": ("hold", "number"), "read": ("means", "name"), "write": ("means", "name")}
 
 
-def is_number(word):
-    """Whether a word is a number in decimal digits."""
-    if not 1 <= len(word) <= MOST_DIGITS or not all([digit in DIGITS for digit in word]):
+def is_number(word, most):
+    """Whether a word is a number in decimal digits, at most so many."""
+    if not 1 <= len(word) <= most or not all([digit in DIGITS for digit in word]):
         return False
     return word == "0" or word[0] != "0"
 
@@ -55,14 +55,14 @@ def is_number(word):
 def is_shift(word):
     """Whether a word is a number, perhaps one below 0."""
     if word.startswith("-"):
-        return word != "-0" and is_number(word[1:])
-    return is_number(word)
+        return word != "-0" and is_number(word[1:], MOST_DIGITS)
+    return is_number(word, MOST_DIGITS)
 
 
 def fits(word, sort):
     """Whether a word is one of a sort."""
     if sort == "number":
-        return is_number(word)
+        return is_number(word, MOST_DIGITS)
     if sort == "shift":
         return is_shift(word)
     if sort == "name":

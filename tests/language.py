@@ -83,14 +83,14 @@ def bound_names(node):
     return found
 
 
-def is_plain(node):
-    """Whether a value at module level is plain."""
+def is_plain(node, functions=()):
+    """Whether a value at module level is plain; functions that are defined above may stand in lists, tuples and dicts."""
     if isinstance(node, ast.Constant):
         return node.value is None or isinstance(node.value, (int, str, bytes, bool))
-    if isinstance(node, (ast.List, ast.Tuple)):
-        return all(is_plain(part) for part in node.elts)
-    if isinstance(node, ast.Dict):
-        return all(part is not None and is_plain(part) for part in node.keys + node.values)
+    if isinstance(node, (ast.List, ast.Tuple, ast.Dict)):
+        parts = node.keys + node.values if isinstance(node, ast.Dict) else node.elts
+        return all(part is not None and (is_plain(part, functions) or isinstance(part, ast.Name) and part.id in functions)
+                   for part in parts)
     return isinstance(node, ast.UnaryOp) and isinstance(node.op, ast.USub) and is_plain(node.operand)
 
 
@@ -143,6 +143,7 @@ class Package:
         for module, tree in self.trees.items():
             self.check_module(module, tree)
             self.check_words(module)
+            self.check_lambdas(module, tree)
             for node in ast.walk(tree):
                 self.check_names(module, node)
                 self.check_expression(module, node)
@@ -169,7 +170,7 @@ class Package:
                 names = [node.name]
             elif isinstance(node, ast.Assign) and len(node.targets) == 1 and isinstance(node.targets[0], ast.Name):
                 names = [node.targets[0].id]
-                if not is_plain(node.value) or has_inner(node.value):
+                if not is_plain(node.value, {name for name in bound if name in self.functions}) or has_inner(node.value):
                     self.note("L3", module, node, names[0])
             else:
                 self.note("L3", module, node)
@@ -384,6 +385,16 @@ class Package:
                     changed = part.value
                 if changed is not None and ast.unparse(changed) in walked:
                     self.note("L23", module, part, ast.unparse(changed))
+
+    def check_lambdas(self, module, tree):
+        """Two lambdas whose parameters have the same names do not stand on one line."""
+        seen = set()
+        for node in ast.walk(tree):
+            if isinstance(node, ast.Lambda):
+                place = (node.lineno, tuple(part.arg for part in node.args.args))
+                if place in seen:
+                    self.note("L13", module, node)
+                seen.add(place)
 
     def check_function(self, module, node):
         for mark in node.decorator_list:

@@ -51,6 +51,10 @@ BROKEN = {
     "class A:\n    @property\n    def told(self):\n        self.rows = 1\n        return 1\n": "L5 pure",
     "class A:\n    def __eq__(self, other):\n        return f(other)\n\n\ndef f(xs):\n    xs.append(1)\n": "L5 pure",
     "class A:\n    def __eq__(self, other):\n        n = 1\n        n += 1\n        return n\n": "L5 pure",
+    "def f(xs):\n    return g(lambda x: x, lambda x: 1)\n": "L13",
+    "A = {1: f}\n\n\ndef f(xs):\n    return 1\n": "L3",
+    "def f(xs):\n    return 1\n\n\nA = {1: [f]}\n": "L3",
+    "def f(xs):\n    return 1\n\n\nA = f\n": "L3",
     # an error of the package has an attribute `index`
     "class A:\n    def __getitem__(self, at):\n        return self.rows.index(at)\n": "L5 pure",
     "class A:\n    def __len__(self):\n        return len(f(self))\n\n\ndef f(xs):\n    return xs.value()\n": "L5 pure",
@@ -91,6 +95,15 @@ def f(xs, *more, n=1):
         if found is None:
             found = xs
     return sorted({x for x in found}) + list(zip(xs, more)) + [TABLE["a"]]
+
+
+ACTIONS = {"f": f}
+
+
+def g(xs):
+    action = ACTIONS["f"]
+    return action(xs, lambda x: x,
+                  lambda x: 1)
 """
 
 
