@@ -93,10 +93,9 @@ class Held(Holding):
             if wrong is not None:
                 return "run", k, wrong
         uses = [used_gaps(self.system, run) for run in self.runs]
+        # the verdict shows that each bad run uses one of those chosen, so they are not ahead of the first choice
         first = first_choice(self.system, uses)
-        if first is not None and (len(first), first) < (len(self.chosen), self.chosen):
-            return "ahead", first
-        return None
+        return None if first == self.chosen else ("ahead", first)
 
     def __len__(self):
         return len(self.spelt)

@@ -30,7 +30,8 @@ def lane_for(layout, name, lane):
     narrowest = narrowest_lane(layout, name)
     if lane is None:
         return narrowest
-    if lane not in lanes_of(layout.width) or not has_field(layout, lane, layout[name]):
+    # a lane that the width does not have raises the error, too
+    if not has_field(layout, lane, layout[name]):
         raise InvalidLane(lane)
     return lane
 

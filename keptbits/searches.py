@@ -37,11 +37,11 @@ def first_way(start, leads, is_goal):
 
 
 def crossed_gaps(system, places, move):
-    """The list of the gaps (name of a task, k), not held, that a move uses at these places."""
+    """The list of the gaps (name of a task, k) that an enabled move uses at these places."""
     if move[0] != "step":
         return []
-    return [(task.name, place) for task, place in zip(system.tasks, places)
-            if task.name != move[1] and place > 0 and place not in task.holds]
+    # at a place that is held no step of another task is enabled
+    return [(task.name, place) for task, place in zip(system.tasks, places) if task.name != move[1] and place > 0]
 
 
 class Search:

@@ -12,7 +12,8 @@ from keptbits.words import check_word, full_word, lane_span
 def check_ports(layout, names):
     """Raise NoName for the first of any values that is not the name of a register."""
     for name in names:
-        if name not in layout or isinstance(layout[name], Field):
+        # a name that the map does not have raises the error, too
+        if isinstance(layout[name], Field):
             raise NoName(name)
 
 
@@ -59,19 +60,19 @@ def setting_tasks(layout, *settings):
                   for task, name, value, core, rank in settings])
 
 
-def values_in_lane(layout, name, port, lane, numbers):
-    """The ascending list of the words that the bits of a field in a lane of a register have for some values."""
+def differ_in_lane(layout, name, port, lane, numbers):
+    """Whether the bits of a field in a lane of a register are not the same for all of some values."""
     if layout.home(name) != port:
-        return [0]
+        return False
     low, size = lane_span(layout.width, lane)
     mask = full_word(size) << low
-    return sorted({(number << layout[name].low) & mask for number in numbers})
+    return len({(number << layout[name].low) & mask for number in numbers}) > 1
 
 
 def may_step_in(setting, other):
     """Whether the task of another setting may step while that of a setting is in its gap."""
-    task, core, rank = setting[0], setting[3], setting[4]
-    return other[0] != task and (other[3] != core or other[4] > rank)
+    core, rank = setting[3:]
+    return other[3] != core or other[4] > rank
 
 
 def is_needed(layout, settings, setting):
@@ -83,7 +84,7 @@ def is_needed(layout, settings, setting):
         field = other[1]
         if field != name and may_step_in(setting, other):
             numbers = [layout[field].reset] + [each[2] for each in settings if each[1] == field]
-            if len(values_in_lane(layout, field, port, lane, numbers)) > 1:
+            if differ_in_lane(layout, field, port, lane, numbers):
                 return True
     return False
 

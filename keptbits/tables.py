@@ -55,7 +55,7 @@ class Table:
     def reached_moves(self):
         """For each reached value, by its spelling, the list of (move, spelling of the state after, faults)."""
         found = {}
-        waiting = [self.unit.start] if len(self.levels) > 0 else []
+        waiting = [self.unit.start]
         while len(waiting) > 0:
             state = waiting.pop()
             if repr(state) in found or repr(state) not in self.first_spots:

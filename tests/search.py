@@ -47,3 +47,24 @@ def is_safe(unit, most=20000):
         if len(seen) > most:
             raise OverflowError
     return True
+
+
+def least_bad_run(unit):
+    """The least of the shortest bad runs over a unit, or None; by the least run to each state of a level."""
+    level, seen = {unit.start: ()}, {unit.start}
+    while level:
+        bad, grown = [], {}
+        for state, run in level.items():
+            for move in unit.moves(state):
+                after, faults = unit.after(state, move)
+                if faults:
+                    bad.append((*run, move))
+                elif after not in seen:
+                    grown[after] = min(grown.get(after, (*run, move)), (*run, move))
+        if bad:
+            return min(bad)
+        seen |= set(grown)
+        if len(seen) > 20000:
+            raise OverflowError
+        level = grown
+    return None
