@@ -113,12 +113,12 @@ def way_to(layout, row, kept, component, start, outcome):
     return first_way((0, track.number_of(start)), leads, is_goal)
 
 
-def first_difference(layout, component, tracks, kept):
-    """(component, start, outcome, side) for the first start from which two tracks differ, or None."""
+def first_difference(layout, tracks, kept):
+    """(component, start, outcome, side) for the first start from which two tracks of a component differ, or None."""
+    component = tracks[0].component
     for start in starts_of(layout, component):
         one, other = [track.outcomes(start, track.whole, kept) for track in tracks]
-        alone = sorted([(outcome, 0) for outcome in one if outcome not in other]
-                       + [(outcome, 1) for outcome in other if outcome not in one])
+        alone = sorted([(end, 0) for end in one if end not in other] + [(end, 1) for end in other if end not in one])
         if len(alone) > 0:
             outcome, side = alone[0]
             return component, start, outcome, side
@@ -131,9 +131,9 @@ def parting(layout, first, second, kept=()):
     check_rows(layout, rows)
     check_kept(rows, kept)
     # all tracks are made first, since each component can be too large
-    tracks = [(component, [Track(layout, row, component) for row in rows]) for component in components_of(layout, rows)]
-    for component, pair in tracks:
-        found = first_difference(layout, component, pair, kept)
+    pairs_of_tracks = [[Track(layout, row, component) for row in rows] for component in components_of(layout, rows)]
+    for tracks in pairs_of_tracks:
+        found = first_difference(layout, tracks, kept)
         if found is not None:
             return found
     return None
@@ -152,6 +152,14 @@ def may_stay(layout, row, indexes, kept):
     return all([variable in last_reads(steps) for variable in kept])
 
 
+def are_enough(cases, indexes, kept):
+    """Whether the steps with these indexes have the outcomes of all cases (track, start, outcomes)."""
+    for track, start, wanted in cases:
+        if track.outcomes(start, indexes, kept) != wanted:
+            return False
+    return True
+
+
 def needed(layout, row, kept=()):
     """The indexes of the fewest steps of a row that are alike to it."""
     check_rows(layout, (row,))
@@ -162,7 +170,6 @@ def needed(layout, row, kept=()):
     whole = list(range(len(row)))
     # the last choice is the whole row
     for indexes in all_choices(whole)[:-1]:
-        if may_stay(layout, row, indexes, kept):
-            if all([track.outcomes(start, indexes, kept) == wanted for track, start, wanted in cases]):
-                return indexes
+        if may_stay(layout, row, indexes, kept) and are_enough(cases, indexes, kept):
+            return indexes
     return tuple(whole)
