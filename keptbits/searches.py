@@ -3,7 +3,8 @@
 from keptbits.errors import TooLarge
 
 MOST_STATES = 1000
-BAD = -1
+# where a move with faults leads when a bad run is looked for
+BAD = "bad"
 
 
 def way_back(origins, node):
